@@ -1,0 +1,1 @@
+"""Cellscript: a language of cells that turn."""
