@@ -106,9 +106,10 @@ class Field:
     def sign_at(self, x, y):
         """The sign at a spot."""
         refuse_wrong(is_spot(x), is_spot(y))
-        return self._sign(x, y)
+        return self.there(x, y)
 
-    def _sign(self, x, y):
+    def there(self, x, y):
+        """The sign at any place, also beyond the farthest spots."""
         if self._sort == "torus":
             return self._rows[y % len(self._rows)][x % len(self._rows[0])]
         if self._has(x, y):
@@ -134,7 +135,7 @@ class Field:
         """The picture of a part."""
         refuse_wrong(is_spot(left), is_spot(top), is_from_to(wide, 1, MOST), is_from_to(high, 1, MOST))
         return [
-            "".join([self._sign(x, y) for x in range(left, left + wide)])
+            "".join([self.there(x, y) for x in range(left, left + wide)])
             for y in range(top, top + high)
         ]
 

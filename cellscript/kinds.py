@@ -65,6 +65,29 @@ def is_way(thing):
     return is_from_to(thing, 0, 7)
 
 
+def is_alike(thing, known):
+    """Whether a thing is what is known: texts, whole numbers, and tuples and lists of these."""
+    if isinstance(known, str):
+        return isinstance(thing, str) and thing == known
+    if is_whole(known):
+        return is_whole(thing) and thing == known
+    if isinstance(known, tuple):
+        return isinstance(thing, tuple) and _all_alike(thing, known)
+    return isinstance(known, list) and isinstance(thing, list) and _all_alike(thing, known)
+
+
+def _all_alike(things, known):
+    return len(things) == len(known) and all([is_alike(one, other) for one, other in zip(things, known)])
+
+
+def texts_of(signs, long):
+    """All texts of signs, so long, in their order."""
+    told = [""]
+    for _ in range(long):
+        told = [text + sign for text in told for sign in signs]
+    return told
+
+
 def refuse_wrong(*right):
     """Refuses what was handed in with the place of the first thing that isn't right."""
     for at, is_right in enumerate(right):

@@ -28,9 +28,14 @@ def run(rule, field, turns):
     fits(rule, field, turns)
     learned = {}
     for _ in range(turns):
-        left, top, rows = area_turned(rule, field, field.turn(), learned)
-        field = field.remade(field.turn() + 1, left, top, rows)
+        field = next_field(rule, field, learned)
     return field
+
+
+def next_field(rule, field, learned):
+    """The field behind one turn, not refused; learned as in area_turned."""
+    left, top, rows = area_turned(rule, field, field.turn(), learned)
+    return field.remade(field.turn() + 1, left, top, rows)
 
 
 def refuse_wrong_run(rule, field, turns):
@@ -77,9 +82,9 @@ def area_turned(rule, field, turn, learned):
             dx, dy = BESIDE[place]
             columns.append(ring[at + 1 + dy][1 + dx:1 + dx + len(row)])
         if rule.kind() == "halves":
-            told.append(_row_turned(rule, columns, (left + top + at + turn) % 2, 2, learned))
+            told.append(row_turned(rule, columns, (left + top + at + turn) % 2, 2, learned))
         else:
-            told.append(_row_turned(rule, columns, 0, 1, learned))
+            told.append(row_turned(rule, columns, 0, 1, learned))
     return left, top, told
 
 
@@ -98,7 +103,7 @@ def _ring_of(field, rows):
     return [wide[-1], *wide, wide[0]]
 
 
-def _row_turned(rule, columns, first, apart, learned):
+def row_turned(rule, columns, first, apart, learned):
     """A row, the first of columns, of which each cell from first on, so far apart, becomes another.
 
     The other columns are what stands at the near places of each cell.

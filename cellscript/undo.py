@@ -1,7 +1,7 @@
 """Undoing: whether turns by a rule lead back, and the field that was."""
 
 from cellscript.errors import Early, Merging, NoWay, TooMany
-from cellscript.kinds import is_text_of, refuse_wrong
+from cellscript.kinds import is_text_of, refuse_wrong, texts_of
 from cellscript.plain import area_turned, refuse_run, refuse_wrong_run
 from cellscript.rules import Rule
 
@@ -13,10 +13,10 @@ def merging(rule):
     refuse_wrong(isinstance(rule, Rule))
     _refuse_wayless(rule)
     if rule.kind() == "blocks":
-        fours = _texts(rule.signs(), 4)
+        fours = texts_of(rule.signs(), 4)
         return _first_alike(fours, [rule.block(four) for four in fours])
     signs = list(rule.signs())
-    for around in _texts(rule.signs(), len(rule.near())):
+    for around in texts_of(rule.signs(), len(rule.near())):
         pair = _first_alike(signs, [rule.becomes(own, around) for own in signs])
         if pair is not None:
             return around, *pair
@@ -74,14 +74,6 @@ def _refuse_wayless(rule):
         raise NoWay()
 
 
-def _texts(signs, long):
-    """All texts of signs, so long, in their order."""
-    told = [""]
-    for _ in range(long):
-        told = [text + sign for text in told for sign in signs]
-    return told
-
-
 def _first_alike(texts, behind):
     """The first two of texts, as a tuple, that are alike behind a turn, None where there are none."""
     for at, one in enumerate(behind):
@@ -93,10 +85,10 @@ def _first_alike(texts, behind):
 def _ways_back(rule):
     """What each cell with its near ones, or each block, was ahead of a turn, as area_turned looks it up."""
     if rule.kind() == "blocks":
-        return {rule.block(four): four for four in _texts(rule.signs(), 4)}
+        return {rule.block(four): four for four in texts_of(rule.signs(), 4)}
     # The near cells stand still in the turn in which a cell turns.
     return {
         (rule.becomes(own, around), *around): own
-        for around in _texts(rule.signs(), len(rule.near()))
+        for around in texts_of(rule.signs(), len(rule.near()))
         for own in rule.signs()
     }

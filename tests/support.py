@@ -256,6 +256,29 @@ def cells_of(picture, left=0, top=0):
     )
 
 
+def some_endless(by, many, turn):
+    wide, high = by.randint(1, 6), by.randint(1, 6)
+    picture = some_picture(by, many, wide, high)
+    return endless(cells_of(picture, by.randint(-5, 5), by.randint(-5, 5)), turn=turn)
+
+
+def some_torus(by, many, turn, even):
+    sizes = (2, 4, 6) if even else (1, 2, 3, 4, 5)
+    return torus(some_picture(by, many, by.choice(sizes), by.choice(sizes)), turn=turn)
+
+
+def some_box(by, many, turn):
+    return box(some_picture(by, many, by.randint(1, 5), by.randint(1, 5)), some_picture(by, many, 1, 1)[0], turn=turn)
+
+
+def some_field(by, kind, sort, many, turn):
+    if kind == "endless":
+        return some_endless(by, many, turn)
+    if kind == "torus":
+        return some_torus(by, many, turn, sort != "around")
+    return some_box(by, many, turn)
+
+
 def swapping_rows(by, sort, many, near, most=6):
     """Rows of a rule that can be undone: each text around, or each block, changes places with another one."""
     rows = []

@@ -12,7 +12,7 @@ BUILTINS = set(
     "divmod ValueError".split()
 )
 METHODS = set(
-    "append clear copy count endswith extend find get index insert isalnum isalpha isdigit islower isspace isupper items join keys "
+    "add append clear copy count endswith extend find get index insert isalnum isalpha isdigit islower isspace isupper items join keys "
     "ljust lower lstrip partition pop remove replace reverse rfind rjust rpartition rsplit rstrip setdefault split splitlines "
     "startswith strip update upper values zfill".split()
 )
@@ -76,6 +76,12 @@ class Language(unittest.TestCase):
             called = {node.func.attr for node in ast.walk(tree) if isinstance(node, ast.Call) and isinstance(node.func, ast.Attribute)}
             self.assertEqual(called - own - METHODS, set(), name)
             self.assertEqual(WORDS.findall(text), [], name)
+
+    def test_exponents_are_written_out(self):
+        for name, _, tree in trees():
+            for node in ast.walk(tree):
+                if isinstance(node, ast.BinOp) and isinstance(node.op, ast.Pow):
+                    self.assertIsInstance(node.right, ast.Constant, name)
 
     def test_no_statements_outside_of_the_subset(self):
         barred = (

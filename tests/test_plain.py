@@ -9,8 +9,8 @@ from cellscript.plain import fits, run, step
 from cellscript.rules import Rule
 from cellscript.ruletexts import read_rule
 from tests.support import (
-    LATE, SORTS, WAYS, World, Told, cells_of, chance, model_spot, no_fields, no_numbers, no_rules, some_parts, some_picture, told_of,
-    world_of,
+    LATE, SORTS, WAYS, World, Told, cells_of, chance, model_spot, no_fields, no_numbers, no_rules, some_endless, some_field, some_parts,
+    some_picture, told_of, world_of,
 )
 
 ALL = "n ne e se s sw w nw"
@@ -24,29 +24,6 @@ BLINKING = read_rule("around 2\n. -> a\na -> .")
 
 def rule_of(parts):
     return Rule(*parts)
-
-
-def some_endless(by, many, turn):
-    wide, high = by.randint(1, 6), by.randint(1, 6)
-    picture = some_picture(by, many, wide, high)
-    return endless(cells_of(picture, by.randint(-5, 5), by.randint(-5, 5)), turn=turn)
-
-
-def some_torus(by, many, turn, even):
-    sizes = (2, 4, 6) if even else (1, 2, 3, 4, 5)
-    return torus(some_picture(by, many, by.choice(sizes), by.choice(sizes)), turn=turn)
-
-
-def some_box(by, many, turn):
-    return box(some_picture(by, many, by.randint(1, 5), by.randint(1, 5)), some_picture(by, many, 1, 1)[0], turn=turn)
-
-
-def some_field(by, kind, sort, many, turn):
-    if kind == "endless":
-        return some_endless(by, many, turn)
-    if kind == "torus":
-        return some_torus(by, many, turn, sort != "around")
-    return some_box(by, many, turn)
 
 
 class Turns(Told):
