@@ -39,6 +39,35 @@ def emitter(many, side="w", shot=()):
     return rows
 
 
+def slow_gun(p, k, shot, flash=False):
+    """A rule of an emitter at 0 of p turns, off which, by its last k turns, something runs to where a shot begins, at k.
+
+    shot tells how the shot, r at first, goes on; with flash something runs ahead of what runs, and is gone then.
+    """
+    signs = "abcdefghij"[:p]
+    runs, ahead = "klmno"[:k - 1], "tuvwx"[:k]
+    rows = [f"{one} -> {other}" for one, other in zip(signs, signs[1:] + signs[0])]
+    begins, last = signs[p - k], "".join(sorted("." + (ahead if flash else "")))
+    for one, other in zip([begins, *runs], [*runs, "r"]):
+        rows.append(f"{last} w={one} -> {other}")
+    rows += [f"{one} -> ." for one in runs]
+    if flash:
+        rows += [f". w={one} -> {other}" for one, other in zip([signs[p - k - 1], *ahead], ahead)]
+        rows += [f"{one} -> ." for one in ahead]
+    return read_rule("\n".join(["around 27 w e", *rows, *SHOTS[shot]]))
+
+
+# Shots that go one on each turn, each second one, each third one, and those that are broader at one turn: r, s and y.
+SHOTS = {
+    "quick": [". w=r -> r", "r -> ."],
+    "slow": [". w=s -> r", "r -> s", "s -> ."],
+    "slower": [". w=q -> r", "r -> s", "s -> q", "q -> ."],
+    "ahead": [". w=r -> y", ".y w=s -> r", "r -> s", "sy -> ."],
+    "behind": [". e=r -> y", ". w=s -> r", "r -> s", "sy -> ."],
+    "both": [". w=r -> y", ". e=r -> y", ".y w=s -> r", "r -> s", "sy -> ."],
+}
+
+
 class Shooting(Told):
     def due(self, rule, cells, told, most=30):
         """What is told of cells, by the model, too."""
@@ -152,6 +181,36 @@ class Shooting(Told):
             for cells in ([(0, 0, "a"), (1, 0, "x")], [(0, 0, "a"), (1, 0, "x"), (2, 0, "y")], [(0, 0, "b"), (1, 0, "y"), (2, 0, "y")]):
                 self.assertEqual(gun_of(rule, cells, 30), model_gun(parts_of(rule), cells, 30))
 
+    def test_two_bare_cells_between_shots(self):
+        # All else is right: nothing but how broad the shot is at one turn, and how far the next one is, tells.
+        cells = [(0, 0, "a")]
+        for p, k, shot, told in (
+            (6, 3, "slow", True), (6, 4, "slow", True), (4, 3, "slow", False), (6, 4, "ahead", False), (8, 4, "ahead", True), (8, 5, "both", False),
+            (10, 5, "both", True), (9, 3, "slower", True), (6, 3, "slower", False), (3, 3, "quick", True), (4, 3, "quick", True),
+        ):
+            rule = slow_gun(p, k, shot)
+            known = ("shooting", p, [(k, 0, "r")], {"quick": 1, "slower": 3}.get(shot, 2), 1, 0)
+            self.due(rule, cells, known if told else None)
+            if told:
+                self.follow(rule, cells, known)
+
+    def test_slow_shots_by_the_model(self):
+        told = {}
+        for shot in SHOTS:
+            for flash in (False, True):
+                for k in range(2, 6):
+                    for p in range(k + flash, 11):
+                        rule = slow_gun(p, k, shot, flash)
+                        known = model_gun(parts_of(rule), [(0, 0, "a")], 12)
+                        self.assertEqual(gun_of(rule, [(0, 0, "a")], 12), known, (p, k, shot, flash))
+                        told[shot, flash, known is not None] = True
+        self.assertGreater(len(told), 20)
+
+    def test_near_at_the_last_turn_alone(self):
+        # What runs ahead is two from the shot of before just behind 5 turns, three behind 4.
+        self.due(slow_gun(6, 4, "slow", True), [(0, 0, "a")], None)
+        self.due(slow_gun(8, 4, "slow", True), [(0, 0, "a")], ("shooting", 8, [(4, 0, "r")], 2, 1, 0))
+
     def test_not_3_beyond(self):
         # The first shot lies 1, 2 and 3 beyond; however many go off, so does the last one of them.
         self.due(EAST, [(0, 0, "a")], None)
@@ -240,15 +299,14 @@ class Shooting(Told):
         rows = ["around 27 s se sw", "a -> c", "c -> d", "d -> a", "h -> i", "i -> j", "j -> h",
                 ". se=d -> b", ". sw=j -> b", ". s=b -> b", "b -> ."]
         rule = read_rule("\n".join(rows))
-        for wide in (56, 57, 58, 59, 60):
-            cells = [(-1, -1, "b"), (0, 0, "a"), (wide, 0, "h"), (wide + 1, -1, "b")]
-            shot = [(-1, -4, "b"), (wide + 1, -4, "b")]
-            self.due(rule, cells, ("shooting", 3, shot, 1, 0, -1) if wide <= 58 else None)
-        for high in (54, 55, 56):
-            # What others are left lies far from each other in the way that they go, too.
-            rule = read_rule("around 27 s\na -> c\nc -> d\nd -> a\n. s=d -> b\n. s=b -> b\nb -> .")
-            cells = [(0, 0, "a"), (0, -1, "b"), (9, -high, "a"), (9, -high - 1, "b")]
-            self.assertEqual(gun_of(rule, sorted(cells), 30), model_gun(parts_of(rule), sorted(cells), 30))
+        for way in range(8):
+            for wide in (57, 58, 59, 60):
+                spots = [(-1, -1, "b"), (0, 0, "a"), (wide, 0, "h"), (wide + 1, -1, "b")]
+                cells = sorted((*model_spot(x, y, way), sign) for x, y, sign in spots)
+                shot = sorted((*model_spot(x, -4, way), "b") for x in (-1, wide + 1))
+                told = ("shooting", 3, shot, 1, *model_spot(0, -1, way)) if wide <= 58 else None
+                self.assertEqual(gun_of(rule.turned(way), cells, 30), told)
+                self.assertEqual(model_gun(parts_of(rule.turned(way)), cells, 4), told)
 
     def test_many_cells_in_a_shot(self):
         cells = [(0, y, "a") for y in range(0, 61)] + [(1, y, "b") for y in range(0, 61)]
@@ -326,6 +384,17 @@ class Holds(Told):
             cells = [(0, 0, "a"), (2, 2, "z")]
             paper = ("shooting", 2 * many, [(2 * many + 2, 2 * many + 2, "z")], 1, 1, 1)
             self.assertEqual(model_fields(parts_of(rule), cells, 2 * many)[-1], sorted([*cells, *paper[2]]))
+            self.assertIs(gun_holds(rule, cells, paper), holds)
+
+    def test_of_just_30_turns_and_31(self):
+        # a goes to and fro between two d; as c, at the one, it sends a shot down.
+        rows = "around 27 w e n\n. w=a -> a\na e=d -> f\na -> .\n. e=b -> b\nb w=d -> c\nb -> .\nc -> a\n. n=c -> z\n. n=z -> z\nz -> .\n"
+        for wide, turns, text, holds in ((14, 30, rows + "f -> b", True), (15, 31, rows.replace("-> f", "-> b"), False)):
+            rule = read_rule(text.strip("\n"))
+            cells = [(0, 0, "d"), (1, 0, "a"), (1, 1, "z"), (wide + 1, 0, "d")]
+            paper = ("shooting", turns, [(1, turns + 1, "z")], 1, 0, 1)
+            self.assertEqual(model_gun(parts_of(rule), cells, 31), paper)
+            self.assertEqual(gun_of(rule, cells, 30), paper if holds else None)
             self.assertIs(gun_holds(rule, cells, paper), holds)
 
     def test_whatever_is_handed_in(self):

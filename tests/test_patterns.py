@@ -256,6 +256,18 @@ class Holds(Told):
         self.assertEqual(model_paper(("halves", 27, (), more.rows()), [(0, 0, "a")], 42), ("turning", 42, 0, 0))
         self.assertIs(paper_holds(more, [(0, 0, "a")], ("turning", 42, 0, 0)), False)
 
+    def test_of_just_40_turns_and_41(self):
+        # a goes to and fro between two d, and rests for a turn at none, or at one of them.
+        rows = "around 5 w e\n. w=a -> a\na e=d -> b\na -> .\n. e=b -> b\nb w=d -> {}\nb -> .\nc -> a"
+        cells = [(0, 0, "d"), (1, 0, "a"), (21, 0, "d")]
+        for sign, turns in (("a", 40), ("c", 41)):
+            rule = read_rule(rows.replace("{}", sign))
+            paper = ("turning", turns, 0, 0)
+            self.assertEqual(model_paper(("around", 5, rule.near(), rule.rows()), cells, 41), paper)
+            self.assertEqual(paper_of(rule, cells, 40), paper if turns == 40 else None)
+            self.assertIs(paper_holds(rule, cells, paper), turns == 40)
+            self.assertEqual(clear_of(rule, cells, [(0, 9, "d")], 60), ("y", False) if turns == 40 else None)
+
     def test_cells_without_a_paper(self):
         for rule, cells in ((LIFE, [(0, 0, "a")]), (GOING, [(0, 0, "a"), (5, 0, "c")]), (STAYING, [])):
             for paper in (("still", 1, 0, 0), ("moving", 1, 1, 0), ("turning", 2, 0, 0), None):
