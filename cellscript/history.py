@@ -55,7 +55,8 @@ class History:
         for now in range(turn + 1, self.last() + 1):
             later.go_on(self.field(now), self._held.get(now, {}), self.last())
         self._fields[turn - self.first():] = later.fields
-        self._held.setdefault(turn, {})[place] = True
+        held = self._held.setdefault(turn, {})
+        held[place] = True
         self._reached, self._changed = later.anew, later.otherwise
         return sum([len(places) for places in self._reached.values()])
 

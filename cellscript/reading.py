@@ -5,11 +5,12 @@ from cellscript.plain import BESIDE
 
 def readers(rule, field, places, turn):
     """The sorted list of all places whose cells read one of places in a turn."""
-    found = set()
-    for x, y in places:
-        for reader in _readers_of(rule, field, x, y, turn):
-            found.add(reader)
-    return sorted(found)
+    if rule.kind() == "blocks":
+        return sorted({reader for place in places for reader in _block_or_alone(field, place, turn)})
+    sides = [BESIDE[side] for side in rule.near()]
+    beside = {(x - dx, y - dy): True for x, y in places for dx, dy in sides}
+    homes = [home_of(field, x, y) for x, y in beside if _turns(rule, x, y, turn)]
+    return sorted({place for place in [*places, *homes] if place is not None})
 
 
 def sign_behind(rule, field, place, turn, learned):
@@ -40,27 +41,21 @@ def _turns(rule, x, y, turn):
     return rule.kind() == "around" or (x + y + turn) % 2 == 0
 
 
-def _readers_of(rule, field, x, y, turn):
-    if rule.kind() == "blocks":
-        block = _block_of(field, x, y, turn)
-        return [(x, y)] if None in block else block
-    told = [(x, y)]
-    for side in rule.near():
-        dx, dy = BESIDE[side]
-        if _turns(rule, x - dx, y - dy, turn):
-            told.append(home_of(field, x - dx, y - dy))
-    return [place for place in told if place is not None]
-
-
 def _block_of(field, x, y, turn):
     """The places of the block of a cell, None for what lies outside of a box."""
     left, top = x - (x + turn) % 2, y - (y + turn) % 2
     return [home_of(field, left + right, top + down) for down in range(2) for right in range(2)]
 
 
-def _sign_of_block(rule, field, place, turn, learned):
+def _block_or_alone(field, place, turn):
+    """The places of the cells that a cell of a block reads: it alone where the block doesn't turn."""
     block = _block_of(field, place[0], place[1], turn)
-    if None in block:
+    return [place] if None in block else block
+
+
+def _sign_of_block(rule, field, place, turn, learned):
+    block = _block_or_alone(field, place, turn)
+    if block == [place]:
         return field.there(place[0], place[1])
     four = "".join([field.there(x, y) for x, y in block])
     if four not in learned:

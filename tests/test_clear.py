@@ -7,7 +7,6 @@ from cellscript.clear import clear_of
 from cellscript.fields import endless
 from cellscript.patterns import paper_of, where_at
 from cellscript.plain import run
-from cellscript.rules import Rule
 from cellscript.ruletexts import read_rule
 from tests.model_patterns import model_clear, model_paper, moved
 from tests.support import Told, chance
@@ -49,7 +48,10 @@ class Clear(Told):
 
     def test_all_cells_of_each(self):
         one = [(0, 0, "a"), (5, 5, "a")]
-        for x, y, told in ((8, 8, ("x", False)), (7, 8, ("y", False)), (8, 7, ("x", False)), (7, 7, None), (-3, 2, ("x", True)), (-2, 2, None), (2, -3, ("y", True)), (2, 2, None)):
+        for x, y, told in (
+            (8, 8, ("x", False)), (7, 8, ("y", False)), (8, 7, ("x", False)), (7, 7, None), (-3, 2, ("x", True)), (-2, 2, None),
+            (2, -3, ("y", True)), (2, 2, None),
+        ):
             self.assertEqual(clear_of(STAYING, one, at("b", x, y), 5), told)
             self.assertEqual(clear_of(STAYING, at("b", x, y), one, 5), told and (told[0], not told[1]))
 

@@ -1,4 +1,4 @@
-"""[52], [53], [10], and of [3], [4], [5] and [9] what is theirs: histories."""
+"""[52], [53], [5], [10], and of [3], [4], [9] and [45] what is theirs: histories."""
 
 import unittest
 
@@ -6,7 +6,8 @@ from cellscript import history
 from cellscript.errors import CellError, NoCell, NoTurn, Odd, Restless, Strange, TooFar, TooMany
 from cellscript.fields import box, endless, torus
 from cellscript.history import History
-from cellscript.plain import fits, run
+from cellscript.kept import Kept
+from cellscript.plain import fits, run, step
 from cellscript.rules import Rule
 from cellscript.ruletexts import read_rule
 from cellscript.undo import undone
@@ -485,6 +486,75 @@ class Refused(Histories):
                 one.go(40)
         self.assertEqual([(one.field(turn), one.reached(turn), one.changed(turn)) for turn in range(4)], known)
         self.refused(NoTurn, {"now": 10 ** 9}, one.field, 10 ** 9)
+
+
+class Worlds(Histories):
+    """[45]: a history of a field that is moved and dated by what fits the sort is the history, moved and dated so."""
+
+    def test_moved_and_dated(self):
+        by = chance(76)
+        for sort in SORTS:
+            for _ in range(20):
+                parts = some_parts(by, sort, 3, keeps=True)
+                rule, field = Rule(*parts), some_endless(by, 3, by.randint(0, 3))
+                dx, dy, later = by.randint(-9, 9), by.randint(-9, 9), by.randint(0, 5)
+                if sort == "halves":
+                    dx += (dx + dy + later) % 2
+                if sort == "blocks":
+                    dx, dy = dx + (dx + later) % 2, dy + (dy + later) % 2
+                one, other = History(rule, field), History(rule, field.moved(dx, dy).dated(field.turn() + later))
+                one.go(5)
+                other.go(5)
+                for turn, x, y, sign in ((2, 0, 0, "a"), (0, 1, 1, "b"), (1, 0, 1, "a"), (2, 0, 0, ".")):
+                    now = field.turn() + turn
+                    self.assertEqual(one.change(now, x, y, sign), other.change(now + later, x + dx, y + dy, sign))
+                    for at in range(one.first(), one.last() + 1):
+                        self.assertEqual(other.field(at + later), one.field(at).moved(dx, dy).dated(at + later))
+                        self.assertEqual(other.reached(at + later), [(x + dx, y + dy) for x, y in one.reached(at)])
+                        self.assertEqual(other.changed(at + later), [(x + dx, y + dy) for x, y in one.changed(at)])
+
+
+class OneRun(Told):
+    """[5]: however a field is run, it is the same field, and by one call of each the same refusal."""
+
+    def all_runs(self, rule, field, turns):
+        def by_history():
+            one = History(rule, field)
+            one.go(turns)
+            return one.field(one.last())
+        return [lambda: run(rule, field, turns), lambda: Kept(rule).run(field, turns), lambda: Kept(rule, most=1).run(field, turns), by_history]
+
+    def test_the_same_field(self):
+        by = chance(77)
+        for sort in SORTS:
+            for kind in KINDS:
+                for _ in range(12):
+                    parts = some_parts(by, sort, 3, keeps=kind == "endless")
+                    rule, field, turns = Rule(*parts), some_field(by, kind, sort, 3, by.randint(0, 3)), by.randint(0, 12)
+                    told = [call() for call in self.all_runs(rule, field, turns)]
+                    now, one, keeper, at = field, History(rule, field), Kept(rule), 0
+                    parted, kept_now = field, field
+                    for _ in range(turns):
+                        now = step(rule, now)
+                    while at < turns:
+                        many = by.randint(1, turns - at)
+                        one.go(many)
+                        parted, kept_now, at = run(rule, parted, many), keeper.run(kept_now, many), at + many
+                    self.assertEqual(told + [now, one.field(one.last()), parted, kept_now], [told[0]] * 8)
+
+    def test_the_same_refusal(self):
+        for rule, field, turns, error, told in (
+            (STAYING, torus(["zd"]), 2, Strange, {"sign": "d"}), (STAYING, box(["a"], "c"), 0, Strange, {"sign": "c"}),
+            (BLINKING, endless([]), 0, Restless, {}), (BLINKING, endless([(0, 0, "b")]), 40, Strange, {"sign": "b"}),
+            (TURNING, torus(["a.", "..", ".."]), 0, Odd, {}), (FLIPPING, torus(["a"]), 9, Odd, {}),
+            (LIFE, endless([(0, 0, "a"), (150, 0, "a")]), 25, TooFar, {"most": 200}),
+            (LIFE, endless([(0, 0, "a"), (0, 190, "a")]), 5, TooFar, {"most": 200}),
+        ):
+            for call in self.all_runs(rule, field, turns):
+                self.refused(error, told, call)
+        for turns in (24, 4):
+            for call in self.all_runs(LIFE, endless([(0, 0, "a"), (150, 0, "a")]), turns):
+                call()
 
 
 class Copies(Histories):

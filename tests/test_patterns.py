@@ -1,4 +1,4 @@
-"""[60], [61], [62], [6], and of [3] and [4] what is theirs: papers, and cells that lie apart."""
+"""[60], [61], [62], [6], and of [3], [4] and [45] what is theirs: papers, and cells that lie apart."""
 
 import unittest
 
@@ -12,7 +12,7 @@ from cellscript.plain import run
 from cellscript.rules import Rule
 from cellscript.ruletexts import read_rule
 from tests.model_patterns import model_fields, model_fits, model_paper, moved
-from tests.support import LATE, SORTS, Hostile, Like, Told, cells_of, chance, nested, shown, some_parts, some_picture, whatever
+from tests.support import SORTS, Hostile, Like, Told, cells_of, chance, model_spot, nested, shown, some_parts, some_picture, whatever
 
 ALL = "n ne e se s sw w nw"
 LIFE = read_rule(f"around 2 {ALL}\n. 3-3=a -> a\na 2-3=a -> a\na -> .")
@@ -185,11 +185,9 @@ class Papers(Told):
         for cells in (moved(pair, 1, 0), [(0, 0, "a")], [(1, 0, "a")], moved(pair, 0, 1)):
             self.assertIsNone(paper_of(rule, cells, 40))
 
-    def test_moved_and_turned_ones(self):
-        for way in range(8):
-            turned = LIFE.turned(way)
-            for dx, dy in ((0, 0), (999, -70), (10 ** 6 - 2, -10 ** 6)):
-                self.assertEqual(paper_of(turned, moved(GLIDER, dx, dy), 9), ("moving", 4, 1, 1))
+    def test_wherever_the_cells_are(self):
+        for dx, dy in ((0, 0), (999, -70), (10 ** 6 - 2, -10 ** 6)):
+            self.assertEqual(paper_of(LIFE, moved(GLIDER, dx, dy), 9), ("moving", 4, 1, 1))
         for dx, dy, shift in ((0, 0, 1), (2, 4, 1), (1, 1, -1), (7, -9, -1)):
             self.assertEqual(paper_of(FLYING, [(dx, dy, "a")], 9), ("moving", 1, shift, shift))
 
@@ -309,9 +307,6 @@ class Where(Told):
             for turn in range(0, 1000, 90):
                 self.assertEqual(where_at(rule, cells, paper, turn), field.cells())
                 field = run(rule, field, 90)
-        for way in range(8):
-            cells = [(x, y, "a") for x, y in ((0, 0), (1, 2))]
-            self.assertEqual(paper_of(STAYING.turned(way), cells, 1), ("still", 1, 0, 0))
 
     def test_wherever_the_cells_are(self):
         far = moved(GLIDER, 10 ** 6 - 2, 10 ** 6 - 2)
@@ -320,6 +315,41 @@ class Where(Told):
 
     def test_the_order_of_the_rows(self):
         self.assertEqual(where_at(LIFE, GLIDER, ("moving", 4, 1, 1), 7), sorted(where_at(LIFE, GLIDER, ("moving", 4, 1, 1), 7)))
+
+
+class Worlds(Told):
+    """[45]: what is moved by what fits the sort, or turned with its rule, has the same paper, moved and turned so."""
+
+    def some_papers(self, seed):
+        by = chance(seed)
+        for sort in SORTS:
+            found = 0
+            while found < 25:
+                parts, cells = some_moving_parts(by, sort, 3), some_cells(by, 3)
+                paper = paper_of(Rule(*parts), cells, 12)
+                if paper is not None and (paper[0] != "still" or by.random() < 0.2):
+                    found += 1
+                    yield by, sort, Rule(*parts), cells, paper
+
+    def test_moved(self):
+        for by, sort, rule, cells, paper in self.some_papers(84):
+            dx, dy = by.randint(-9, 9), by.randint(-9, 9)
+            if sort == "halves":
+                dx += (dx + dy) % 2
+            if sort == "blocks":
+                dx, dy = 2 * dx, 2 * dy
+            self.assertEqual(paper_of(rule, moved(cells, dx, dy), 12), paper)
+            self.assertEqual(where_at(rule, moved(cells, dx, dy), paper, 29), moved(where_at(rule, cells, paper, 29), dx, dy))
+
+    def test_turned(self):
+        corners = {"around": (0, 1), "halves": (0,), "blocks": (1,)}
+        for _, sort, rule, cells, (word, turns, dx, dy) in self.some_papers(85):
+            for way in range(8):
+                for corner in corners[sort]:
+                    other = sorted((*model_spot(x, y, way, corner), sign) for x, y, sign in cells)
+                    told = (word, turns, *model_spot(dx, dy, way))
+                    self.assertEqual(paper_of(rule.turned(way), other, 12), told)
+                    self.assertIs(paper_holds(rule.turned(way), other, told), True)
 
 
 class Apart(Told):
