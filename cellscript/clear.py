@@ -1,6 +1,6 @@
 """Cells that are clear of each other for ever."""
 
-from cellscript.patterns import MOST_TURNS, fields_behind, paper_learned, refuse_cells
+from cellscript.patterns import MOST_PAPER, fields_behind, paper_learned, refuse_cells
 
 GAP = 3
 AXES = ("x", "y")
@@ -10,7 +10,7 @@ def clear_of(rule, one, other, most):
     """(axis, first) where two lists of cells are clear of each other, None where they aren't."""
     refuse_cells(rule, one)
     refuse_cells(rule, other)
-    papers = [paper_learned(rule, cells, min(most, MOST_TURNS), {}) for cells in (one, other)]
+    papers = [paper_learned(rule, cells, min(most, MOST_PAPER), {}) for cells in (one, other)]
     if None in papers:
         return None
     turns = _least_of_both(papers[0][1], papers[1][1])

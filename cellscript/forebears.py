@@ -1,10 +1,9 @@
 """Forebears of pictures on a strip and of closed rows: how many, which, and papers that there are none."""
 
 from cellscript.errors import NoForebear
-from cellscript.kinds import is_text_of
 from cellscript.strips import (
-    columns_by_number, columns_of, many_from, pick, refuse_strip, ring_steps, states_of, states_that_come,
-    strip_steps, ways_through,
+    are_states, columns_by_number, columns_of, many_from, pick, refuse_strip, ring_steps, rows_of, states_of,
+    states_that_come, strip_steps, ways_through,
 )
 
 
@@ -24,8 +23,7 @@ def forebear(rule, edge, rows, number):
     at, left = pick(counts, number)
     others = columns_of(rule, len(rows))
     behind = columns_by_number(steps, _seen_columns(rows), others, [(ways, states[at])], left)
-    columns = [*states[at], *behind]
-    return ["".join(row) for row in zip(*columns)]
+    return rows_of([*states[at], *behind])
 
 
 def none_of(rule, edge, rows):
@@ -46,7 +44,7 @@ def none_holds(rule, edge, rows, paper):
     columns = _seen_columns(rows)
     if not isinstance(paper, list) or not 1 <= len(paper) <= len(columns) + 1:
         return False
-    if not all([_are_states(states, rule.signs(), len(rows)) for states in paper]):
+    if not all([are_states(states, rule.signs(), len(rows)) for states in paper]):
         return False
     bare = [at for at, states in enumerate(paper) if states == []]
     if paper[0] != states_of(rule, len(rows)) or bare != [len(paper) - 1]:
@@ -56,19 +54,6 @@ def none_holds(rule, edge, rows, paper):
         if not all([state in behind for state in states_that_come(steps, ahead, column)]):
             return False
     return True
-
-
-def _are_states(thing, signs, high):
-    """Whether a thing is a list of states, rising."""
-    if not isinstance(thing, list) or not all([_is_state(state, signs, high) for state in thing]):
-        return False
-    return thing == sorted(set(thing))
-
-
-def _is_state(thing, signs, high):
-    if not isinstance(thing, tuple) or len(thing) != 2:
-        return False
-    return is_text_of(thing[0], signs, high) and is_text_of(thing[1], signs, high)
 
 
 def _refuse_no_forebear(number, total):

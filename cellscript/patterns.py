@@ -5,7 +5,7 @@ from cellscript.fields import Field
 from cellscript.kinds import is_alike, is_from_to
 from cellscript.plain import next_field
 
-MOST_TURNS = 40
+MOST_PAPER = 40
 
 
 def refuse_cells(rule, cells):
@@ -69,7 +69,7 @@ def _word_of(dx, dy, resting):
 def paper_holds(rule, cells, paper):
     """Whether a paper, whatever it is, is the one that is told of cells by its own turns."""
     refuse_cells(rule, cells)
-    if not isinstance(paper, tuple) or len(paper) != 4 or not is_from_to(paper[1], 1, MOST_TURNS):
+    if not isinstance(paper, tuple) or len(paper) != 4 or not is_from_to(paper[1], 1, MOST_PAPER):
         return False
     return is_alike(paper, paper_of(rule, cells, paper[1]))
 

@@ -5,7 +5,7 @@ middle and other make it. ways are lists of dicts: by a state, how many ways lea
 """
 
 from cellscript.errors import NotAround, Strange, TooMany
-from cellscript.kinds import texts_of
+from cellscript.kinds import is_text_of, texts_of
 from cellscript.plain import BESIDE
 
 MOST_STATES = 64
@@ -34,6 +34,19 @@ def states_of(rule, high):
     """All states of a strip so high, in their order."""
     columns = columns_of(rule, high)
     return [(one, other) for one in columns for other in columns]
+
+
+def are_states(thing, signs, high):
+    """Whether a thing is a list of states, rising."""
+    if not isinstance(thing, list) or not all([_is_state(state, signs, high) for state in thing]):
+        return False
+    return thing == sorted(set(thing))
+
+
+def _is_state(thing, signs, high):
+    if not isinstance(thing, tuple) or len(thing) != 2:
+        return False
+    return is_text_of(thing[0], signs, high) and is_text_of(thing[1], signs, high)
 
 
 def strip_steps(rule, edge, high):
@@ -73,6 +86,11 @@ def states_that_come(steps, states, column):
     """The sorted list of the states that come of states where a column is made."""
     following = steps.get(column, {})
     return sorted({(state[1], other) for state in states for other in following.get(state, [])})
+
+
+def rows_of(columns):
+    """The rows of a picture, by its columns."""
+    return ["".join(row) for row in zip(*columns)]
 
 
 def ways_through(steps, columns, ends):

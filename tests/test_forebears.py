@@ -10,9 +10,8 @@ from cellscript.forebears import forebear, how_many, none_holds, none_of, ring_f
 from cellscript.plain import run
 from cellscript.rules import Rule
 from cellscript.ruletexts import read_rule
-from tests.support import (
-    SIGNS, Hostile, Like, Told, World, chance, nested, shown, some_near, some_parts, some_picture, some_rows, whatever,
-)
+from tests.model_strips import columns_of, model_made, rows_of, some_around
+from tests.support import SIGNS, Hostile, Like, Told, World, chance, nested, shown, some_parts, some_picture, whatever
 
 ALL = "n ne e se s sw w nw"
 LIFE = read_rule(f"around 2 {ALL}\n. 3-3=a -> a\na 2-3=a -> a\na -> .")
@@ -24,28 +23,6 @@ ADDING = read_rule("around 2 w e\n.a 1-1=a -> a\n.a -> .")
 TURNING = read_rule("blocks 2\na . . . -> .a..")
 FLIPPING = read_rule("halves 2 n\na -> .")
 SIZES = ((2, 1), (2, 2), (2, 3), (3, 1), (4, 1))
-
-
-def some_around(by, many):
-    """The parts of a rule of around, of rows enough to make unlike columns of unlike ones."""
-    near = some_near(by, "around")
-    return "around", many, near, some_rows(by, "around", many, near, 8)
-
-
-def columns_of(rows):
-    return ["".join(column) for column in zip(*rows)]
-
-
-def rows_of(columns, high):
-    return ["".join(column[at] for column in columns) for at in range(high)]
-
-
-def model_made(parts, edge, rows):
-    """What a picture becomes between edges, but for its first and last column, cell by cell."""
-    wide = len(rows[0])
-    signs = {(x, y): sign for y, row in enumerate(rows) for x, sign in enumerate(row)}
-    world = World("box", 0, signs, edge, wide, len(rows))
-    return ["".join(world.next_sign(parts, x, y) for x in range(1, wide - 1)) for y in range(len(rows))]
 
 
 def model_forebears(parts, edge, rows):
