@@ -52,7 +52,7 @@ def answer(book, row):
         book.do(_deed_of(row))
         return "ok"
     if words[0] == "instead":
-        return _instead(book, words[1:])
+        return _instead(book, " ".join(words[1:]))
     if words[0] not in ROWS:
         raise NoLine()
     parts = read_parts(words[1:], ROWS[words[0]])
@@ -72,11 +72,12 @@ def _deed_of(row):
         raise NoLine()
 
 
-def _instead(book, words):
-    at = read_below(words[0]) if len(words) > 1 else None
+def _instead(book, text):
+    place, _, row = text.partition(" ")
+    at = read_below(place)
     if at is None:
         raise NoLine()
-    names = book.instead(at, _deed_of(" ".join(words[1:])))
+    names = book.instead(at, _deed_of(row))
     return NONE if names == [] else " ".join(names)
 
 

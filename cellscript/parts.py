@@ -3,7 +3,7 @@
 from cellscript.errors import NoText
 from cellscript.fields import Field
 from cellscript.fieldtexts import read_below, read_field, show_field
-from cellscript.kinds import is_from_to, is_sign, is_spot, is_way, is_whole, is_word
+from cellscript.kinds import is_from_to, is_sign, is_spot, is_way, is_word
 from cellscript.machine import Machine, is_fed, read_fed, read_machine, show_fed, show_machine
 from cellscript.patterns import MOST_PAPER
 from cellscript.pictures import MOST, is_piece, read_piece, show_piece
@@ -11,13 +11,16 @@ from cellscript.plain import MOST_TURNS
 from cellscript.rules import Rule
 from cellscript.ruletexts import read_rule, show_rule
 
-LETTERED = ("word", "sign")
-
 
 def is_part(thing, kind):
-    """Whether a thing, whatever it is, is a part of a kind."""
-    if kind in LETTERED:
-        return is_word(thing) if kind == "word" else is_sign(thing)
+    """Whether a thing, whatever it is, is a part of a kind.
+
+    A number is a spot, a way, turns, a size of a picture, or the most turns of a paper.
+    """
+    if kind == "word":
+        return is_word(thing)
+    if kind == "sign":
+        return is_sign(thing)
     if kind == "piece":
         return is_piece(thing)
     if kind == "rule":
@@ -38,17 +41,11 @@ def _is_number(thing, kind):
         return is_way(thing)
     if kind == "turns":
         return is_from_to(thing, 0, MOST_TURNS)
-    if kind == "size":
-        return is_from_to(thing, 1, MOST)
-    if kind == "most":
-        return is_from_to(thing, 1, MOST_PAPER)
-    return is_whole(thing)
+    return is_from_to(thing, 1, MOST if kind == "size" else MOST_PAPER)
 
 
 def show_part(part, kind):
     """The text of a part of a kind."""
-    if kind in LETTERED:
-        return part
     if kind == "piece":
         return show_piece(part)
     if kind == "rule":
@@ -81,7 +78,7 @@ def _read_part(text, kind):
 
 
 def _read_plain(text, kind):
-    if kind in LETTERED:
+    if kind in ("word", "sign"):
         return text
     if kind == "piece":
         return read_piece(text)

@@ -60,6 +60,31 @@ class Language(unittest.TestCase):
                     self.assertEqual((node.module.split(".")[0], node.level), ("cellscript", 0), name)
                     self.assertTrue((FOLDER / (node.module.split(".")[1] + ".py")).exists(), name)
 
+    def test_imports_name_the_file_that_defines_it_and_lead_in_no_ring(self):
+        defined, follows = {}, {}
+        for name, _, tree in trees():
+            defined[name] = {row.name for row in tree.body if hasattr(row, "name")}
+            defined[name] |= {target.id for row in tree.body if isinstance(row, ast.Assign) for target in row.targets}
+            follows[name] = []
+        for name, _, tree in trees():
+            for node in ast.walk(tree):
+                if isinstance(node, ast.ImportFrom):
+                    file = node.module.split(".")[1] + ".py"
+                    follows[name].append(file)
+                    for alias in node.names:
+                        self.assertIsNone(alias.asname, name)
+                        self.assertIn(alias.name, defined[file], name)
+        while follows:
+            last = [name for name, files in follows.items() if not set(files) & set(follows)]
+            self.assertNotEqual(last, [], follows)
+            follows = {name: files for name, files in follows.items() if name not in last}
+
+    def test_barred_names(self):
+        barred = re.compile(r"_*(_wall|_pe_|_dcw_|_enum_|_cm_|_twin_re_|_lay_|_law_|_stub_|_sre|_WallAttr|_cold|_tuplegetter|_outside|_record|_written_out|_member_names)")
+        for name, _, tree in trees():
+            self.assertEqual([one for one in bound(tree) if barred.match(one) or not one.isascii()], [], name)
+            self.assertEqual([one for one in bound(tree) if one.startswith("__") and one not in ("__init__", "__eq__", "__len__", "__repr__")], [], name)
+
     def test_names(self):
         for name, _, tree in trees():
             methods = {row.name for node in ast.walk(tree) if isinstance(node, ast.ClassDef) for row in node.body if hasattr(row, "name")}
