@@ -14,7 +14,6 @@ from cellscript.logs import book_of, show_log
 from cellscript.machine import Machine, read_machine
 from cellscript.plain import run
 from cellscript.rules import Rule
-from cellscript.ruletexts import read_rule
 from cellscript.undo import merging, undone
 from cellscript.wires import wires
 from tests.model_books import (

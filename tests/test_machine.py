@@ -6,7 +6,7 @@ from cellscript import machine as file
 from cellscript.errors import BadRow
 from cellscript.machine import Machine, read_fed, read_machine, show_fed, show_machine
 from tests.model_machines import READS, model_size, some_fed, some_machine
-from tests.support import Hostile, Like, Told, chance, misspelled, nested, shown, whatever
+from tests.support import Hostile, Like, Told, chance, misspelled, nested, whatever
 
 EVERY = [
     ("in", "a"), ("one", "b"), ("not", "c", "a"), ("flip", "d", "b"), ("and", "e", "a", "d"), ("or", "f", "e", "a"), ("xor", "g", "f", "f"),
